@@ -1,0 +1,1 @@
+"""Silentslips: which slips of one token a data language reads silently as something else."""

@@ -105,7 +105,7 @@ class Telling(unittest.TestCase):
     def test_any_value_in_a_form(self):
         for form in self.forms:
             self.assertIs("k" in form, True)
-            for thing in (None, True, False, 0, 1, 10 ** 29, "", "z", [], ["k"], ("k",), (), [["k"]], ("k", A), A, form):
+            for thing in (None, True, False, 0, 1, 10 ** 29, "", "z", [], ["k"], ("k",), (), [["k"]], A, form):
                 self.assertIs(thing in form, False)
 
     def test_the_number_of_kinds(self):

@@ -1,10 +1,15 @@
-"""The part of the example at the end of the document that needs patterns, machines and forms alone."""
+"""The parts of the example at the end of the document that need no survey."""
 
 import unittest
 
+from silentslips.books import Book
+from silentslips.errors import Refused
 from silentslips.forms import Form
 from silentslips.machines import machine_of
 from silentslips.patterns import one
+from silentslips.reading import Reader, read
+from silentslips.rules import Out, Slips, rule_of
+from silentslips.slipping import fate, spots_at
 
 SYMBOLS = ["x", "s", ",", "group", "tuple", "list"]
 
@@ -57,6 +62,49 @@ class Example(unittest.TestCase):
         self.assertEqual(machine.ends, ("list",) * 3)
         self.assertEqual([machine.run(row)[1] for row in ([], ["x", ","], ["s", "s", ","])], [0, 0, 0])
         self.assertIsNone(machine.run(["x", "s"]))
+
+    def book(self):
+        return Book(self.whole, self.round, self.list, words=["x", "s"], signs=[","])
+
+    def test_book(self):
+        book = self.book()
+        self.assertEqual(book.words + book.signs, ("x", "s", ","))
+        self.assertEqual(book.tokens, ("x", "s", ",", "(", ")", "[", "]"))
+        self.assertEqual(book.symbols, tuple(SYMBOLS))
+        self.assertEqual((book.kinds, book.forms), (("doc", "group", "tuple", "list"), ("whole", "round", "list")))
+        self.assertEqual([book.least(kind) for kind in book.kinds], ["x", "( x )", "( x , )", "[ ]"])
+        self.assertEqual(list(book.texts(4)), [
+            "x", "[ ]", "( x )", "[ x ]", "[ s ]", "( x , )", "( [ ] )", "[ x , ]", "[ s s ]", "[ s , ]", "[ [ ] ]",
+        ])
+        for form in (self.whole, self.round, self.list):
+            machine = self.machine(form)
+            found = book.machine(form.name)
+            self.assertEqual((found.steps, found.ends), (machine.steps, machine.ends))
+
+    def test_read(self):
+        book = self.book()
+        self.assertEqual(read(book, "( x , )").meaning, ("doc", (("item", ("tuple", (("item", "x"),))),)))
+        with self.assertRaises(Refused) as caught:
+            read(book, "( x x")
+        error = caught.exception
+        self.assertEqual((error.at, error.line, error.awaited), (2, 1, (",", ")")))
+        reader = Reader(book)
+        reader.feed_all("( x")
+        self.assertEqual(reader.expected, (",", ")"))
+
+    def test_slips_of_the_surveyed_rows(self):
+        book = self.book()
+        for rule, spots, wanted, text, place in (
+            ("out ,", (("list", "between"),), "refused", "[ x , x ]", 2),
+            ("out ,", (("list", "between"),), "same", "[ x , ]", 2),
+            ("out ,", (("list", "between"),), "other", "[ s , s ]", 2),
+            ("out ,", (("round", "between"),), "refused", "( x , x )", 2),
+            ("out ,", (("round", "between"),), "same", "( x , x , )", 4),
+            ("out ,", (("round", "between"),), "other", "( x , )", 2),
+        ):
+            self.assertIn(rule_of(rule), Slips(Out(",")))
+            self.assertEqual(fate(book, text, rule_of(rule), place), wanted)
+            self.assertEqual(spots_at(book, text, rule_of(rule), place), spots)
 
 
 if __name__ == "__main__":

@@ -1,4 +1,4 @@
-"""The parts of the example at the end of the document that need no survey."""
+"""The example at the end of the document."""
 
 import unittest
 
@@ -10,6 +10,7 @@ from silentslips.patterns import one
 from silentslips.reading import Reader, read
 from silentslips.rules import Out, Slips, rule_of
 from silentslips.slipping import fate, spots_at
+from silentslips.surveys import survey
 
 SYMBOLS = ["x", "s", ",", "group", "tuple", "list"]
 
@@ -92,17 +93,18 @@ class Example(unittest.TestCase):
         reader.feed_all("( x")
         self.assertEqual(reader.expected, (",", ")"))
 
-    def test_slips_of_the_surveyed_rows(self):
+    def test_survey(self):
         book = self.book()
-        for rule, spots, wanted, text, place in (
+        told = survey(book, Slips(Out(",")))
+        self.assertEqual(told.rows, (
             ("out ,", (("list", "between"),), "refused", "[ x , x ]", 2),
             ("out ,", (("list", "between"),), "same", "[ x , ]", 2),
             ("out ,", (("list", "between"),), "other", "[ s , s ]", 2),
             ("out ,", (("round", "between"),), "refused", "( x , x )", 2),
             ("out ,", (("round", "between"),), "same", "( x , x , )", 4),
             ("out ,", (("round", "between"),), "other", "( x , )", 2),
-        ):
-            self.assertIn(rule_of(rule), Slips(Out(",")))
+        ))
+        for rule, spots, wanted, text, place in told.rows:
             self.assertEqual(fate(book, text, rule_of(rule), place), wanted)
             self.assertEqual(spots_at(book, text, rule_of(rule), place), spots)
 

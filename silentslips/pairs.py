@@ -121,7 +121,7 @@ class Pairs:
 
     def is_pair(self, x):
         """Whether any value is a pair of these books."""
-        if not isinstance(x, tuple) or len(x) != 4:
+        if not isinstance(x, tuple) or len(x) != PAIR:
             return False
         form, state, other, alike = x
         if not (isinstance(form, str) and form in self.leads and isinstance(alike, bool)):
@@ -134,7 +134,7 @@ class Pairs:
 
     def is_change(self, x):
         """Whether any value is a change of these books."""
-        if not isinstance(x, tuple) or len(x) != 3:
+        if not isinstance(x, tuple) or len(x) != CHANGE:
             return False
         kind, after, alike = x
         if not (isinstance(kind, str) and isinstance(after, str) and isinstance(alike, bool)):

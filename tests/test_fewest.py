@@ -291,6 +291,20 @@ class Holding(unittest.TestCase):
             self.check(self.labels, (*self.prices, price), False)
             self.check(self.labels, (*self.prices, (*price[:3], 0)), False)
 
+    def test_costs_below_0(self):
+        """Costs that would hold but for being below 0."""
+        labels, prices = self.every()
+        many = 0
+        for at, label in enumerate(labels):
+            given = [*labels[:at], (*label[:4], -1), *labels[at + 1:]]
+            many += self.slow(given, prices)
+            self.check(given, prices, False)
+        for at, price in enumerate(prices):
+            given = [*prices[:at], (*price[:3], -1), *prices[at + 1:]]
+            many += self.slow(labels, given)
+            self.check(labels, given, False)
+        self.assertGreater(many, 2)
+
     def test_the_beginnings_cost_0(self):
         for form in self.book.forms:
             at = self.labels.index((form, 0, 0, True, 0))

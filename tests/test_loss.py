@@ -259,6 +259,15 @@ class IsLoss(unittest.TestCase):
         self.assertNotIn("m", machine.reach(state))
         self.check([*self.rows, ("m", state, ())], True)
 
+    def test_a_state_that_the_form_does_not_have(self):
+        for kind in self.one.kinds:
+            most = len(self.one.machine(self.one.form_of(kind)))
+            for state in (-1, most, most + 1):
+                self.check([*self.every(), (kind, state, ())], False)
+            partner = self.told.form(kind)
+            if partner is not None:
+                self.check([*self.every(), (kind, 0, (len(self.other.machine(partner)),))], False)
+
     def test_values_that_are_no_lists(self):
         deep = ()
         for _ in range(158):

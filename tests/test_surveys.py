@@ -2,6 +2,7 @@ import unittest
 from random import Random
 
 from silentslips.books import Book
+from silentslips.errors import SlipError
 from silentslips.forms import Form
 from silentslips.patterns import nothing, one
 from silentslips.reading import read
@@ -28,6 +29,34 @@ ANY_VALUES = [(), ((),), ("list", "between"), [("list", "between")], (["list", "
 
 def x_then(pattern, **kinds):
     return Book(Form.whole(doc=one("x", "item") + pattern, **kinds), words=["x"], signs=[",", ";"])
+
+
+def free_book(random):
+    """A book with words, signs and one to three forms with brackets; most of what may stand somewhere is joined by |."""
+    kinds = [["ka", "kb"], ["la", "lb"], ["ma"]][:random.randint(1, 3)]
+    symbols = ["a", "b", ",", ";", *sum(kinds, [])]
+    steps = [one(symbol, random.choice(["r", "s"])) for symbol in symbols]
+    while True:
+        forms = [Form.whole(doc=free_pattern(steps, random, 5))]
+        for (name, opener, closer), names in zip((("f", "(", ")"), ("g", "[", "]"), ("h", "<", ">")), kinds):
+            forms.append(Form(name, opener, closer, **{kind: free_pattern(steps, random, 4) for kind in names}))
+        try:
+            book = Book.of(forms, ["a", "b"], [",", ";"])
+        except SlipError:
+            continue
+        if len(list(book.texts(3))) > 5:
+            return book
+
+
+def free_pattern(steps, random, size):
+    if size == 1:
+        return random.choice(steps)
+    if random.random() < 0.35:
+        pattern = free_pattern(steps, random, size)
+        return ~pattern if random.random() < 0.7 else -pattern
+    left = random.randint(1, size - 1)
+    a, b = free_pattern(steps, random, left), free_pattern(steps, random, size - left)
+    return a | b if random.random() < 0.6 else a + b
 
 
 class Example(unittest.TestCase):
@@ -198,6 +227,25 @@ class AgainstAllSlips(unittest.TestCase):
             self.assertEqual({row[:3]: row[3:] for row in found.rows if len(row[3].split()) <= 6}, wanted)
             self.check_tables(book, rules)
 
+    def test_books_with_many_forms(self):
+        """Books in which most rows may be anything, with up to three forms with brackets and all kinds of rules."""
+        random = Random(55)
+        rows = longer = 0
+        for _ in range(150):
+            book = free_book(random)
+            rules = random.sample(all_rules(book.tokens), 30)
+            most = 4 if len(list(book.texts(4))) < 400 else 3
+            wanted = least_slips(self.slow_slips(book, rules, most))
+            found = survey(book, Slips.of([rule_of(" ".join(rule)) for rule in rules])).rows
+            self.assertEqual({row[:3]: row[3:] for row in found if len(row[3].split()) <= most}, wanted)
+            for rule, spots, said, text, place in found:
+                self.assertEqual(fate(book, text, rule_of(rule), place), said)
+                self.assertEqual(spots_at(book, text, rule_of(rule), place), spots)
+                longer += len(text.split()) > most
+            rows += len(found)
+        self.assertGreater(rows, 4000)
+        self.assertLess(longer, rows // 2)
+
     def slow_slips(self, book, rules, most):
         """All slips in all texts of at most so many tokens, by the words of the book itself."""
         for text in book.texts(most):
@@ -263,6 +311,43 @@ class Texts(unittest.TestCase):
         self.assertEqual([row[3] for row in told.rows], ["a ,", "z ,"])
         self.assertEqual(told.least(Out(","), "same"), ("z ,", 1))
 
+    def test_more_symbols_can_be_fewer_tokens(self):
+        """The least row is not the one with the fewest symbols, where one of them is a long group."""
+        long_group = Form("g", "[", "]", n=one("x") * 3)
+        row = one("n", "in") + (one(",") + one("x") | one(";")) | one("x") * 2 + one(",") + one("x")
+        told = survey(Book(Form.whole(doc=row), long_group, words=["x"], signs=[",", ";"]), Slips(Taken(",", "?")))
+        self.assertEqual(told.least(Taken(",", "?"), "refused"), ("x x , x", 2))
+        # The same in a group whose bracket is exchanged, on all four sides.
+        row = one("n", "in") + -one(";") | one("x") * 2
+        around = one("k", "in") + -one(",") | one(",") + one("k", "in")
+        book = Book(Form.whole(doc=around), Form("f", "(", ")", k=row), long_group, words=["x"], signs=[",", ";"])
+        told = survey(book, Slips(Swapped(")", ","), Swapped(",", "(")))
+        self.assertEqual([line[2:] for line in told.rows], [("refused", "( x x ) ,", 3), ("refused", ", ( x x )", 0)])
+        row = (one("n", "in") + -one(";") | one("x") * 2) + one(",")
+        book = Book(Form.whole(doc=one("k", "in")), Form("f", "(", ")", k=row), long_group, words=["x"], signs=[",", ";"])
+        told = survey(book, Slips(Swapped(",", ")"), Swapped("(", "x")))
+        self.assertEqual([line[2:] for line in told.rows], [("refused", "( x x , )", 0), ("refused", "( x x , )", 3)])
+
+    def test_more_symbols_can_be_fewer_tokens_beside_groups(self):
+        long_group, short = Form("g", "[", "]", n=one("x") * 3), one("n", "in") + -one(";") | one("x") * 2
+        k, e = one("k", "in"), one("e", "in")
+        for whole, kinds, rule, least in (
+            (k * 2, {"k": short}, Swapped(")", "("), ("( x x ) ( x x )", 3)),
+            (k | e, {"e": nothing(), "k": short + e}, Swapped("(", ")"), ("( )", 0)),
+            (k, {"e": nothing(), "k": short + e}, Swapped("(", ")"), ("( x x ( ) )", 3)),
+            (short + k, {"k": one(",")}, Taken(",", "?"), ("x x ( , )", 3)),
+            (short + k, {"k": one(",")}, Out("("), ("x x ( , )", 2)),
+        ):
+            book = Book(Form.whole(doc=whole), Form("f", "(", ")", **kinds), long_group, words=["x"], signs=[",", ";"])
+            self.assertEqual(survey(book, Slips(rule)).least(rule, "refused"), least)
+
+    def test_the_first_kind_need_not_be_the_least(self):
+        la, lb = one("la", "in"), one("lb", "in")
+        book = Book(Form.whole(doc=one("k", "in")), Form("f", "(", ")", k=la | lb | la * 2),
+                    Form("g", "[", "]", la=one("x") * 3, lb=one("x")), words=["x"], signs=[])
+        for rule, place in ((Swapped("(", "["), 0), (Swapped("]", ")"), 3), (Out("["), 1), (Twice("]"), 3)):
+            self.assertEqual(survey(book, Slips(rule)).least(rule, "refused"), ("( [ x ] )", place))
+
     def test_deep_groups(self):
         """A slip in the innermost of groups that can only stand in one another."""
         kinds = {name: one(inner, "in") for name, inner in zip("abcdef", "bcdefg")}
@@ -312,10 +397,9 @@ class Lookalikes(unittest.TestCase):
         told.clear()
         self.assertEqual(len(lookalikes(EXAMPLE)), 2)
 
-    def test_one_of_the_two_rules_is_enough(self):
+    def test_a_word_and_a_sign(self):
         book = Book(Form.whole(doc=one("x") + -one(",")), words=["x"], signs=[",", ";"])
         self.assertEqual(lookalikes(book), [])
-        # x x may be written as x ; but not the other way round.
         book = Book(Form.whole(doc=one("x") + one("x"), all=one("x") + one(";") + -one(",")), words=["x"], signs=[",", ";"])
         self.assertEqual(lookalikes(book), [("x", ";")])
 

@@ -143,6 +143,18 @@ class Equality(unittest.TestCase):
         spots = (("whole", "plain"),)
         self.assertTrue(table(book, Out(","), spots) == table(book, Twice(","), spots))
 
+    def test_the_same_pairs_or_changes_alone(self):
+        x, spots = one("x") + ~one(","), (("whole", "plain"),)
+        books = [Book(Form.whole_of([(kind, pattern)]), words=["x"], signs=[","])
+                 for kind, pattern in (("doc", x), ("all", x), ("doc", one(",") + x))]
+        told = [table(book, Twice(","), spots) for book in books]
+        self.assertEqual(told[0].pairs, told[1].pairs)
+        self.assertFalse(told[0] == told[1])
+        told = [table(books[0], rule, spots) for rule in (Taken(",", "?"), Out("x"), Twice("x"))]
+        self.assertEqual(told[0].changes, told[1].changes)
+        self.assertFalse(told[0] == told[1])
+        self.assertTrue(told[0] == told[2])
+
     def test_different(self):
         told = table(EXAMPLE, RULE, SPOTS)
         self.assertFalse(told == table(EXAMPLE, RULE, (("list", "between"),)))

@@ -78,6 +78,11 @@ class Writing(Checked):
         self.check(book, ("doc", (("a", "x"),)), "x")
         self.check(book, ("doc", (("b", "x"),)), ", x")
 
+    def test_longer_words(self):
+        book = Book(Form.whole(doc=one("word", "r") + one(":=", "is") + one("abcd", "r")), words=["abcd", "word"], signs=[":="])
+        self.check(book, ("doc", (("r", "word"), ("r", "abcd"))), "word := abcd")
+        self.refuse(book, ("doc", (("r", "w"), ("r", "abcd"))), ())
+
     def test_nothing(self):
         self.check(Book(Form.whole(doc=~one(",")), words=[], signs=[","]), ("doc", ()), "")
         self.check(Book(Form.whole(doc=one(",") * 2), words=[], signs=[","]), ("doc", ()), ", ,")

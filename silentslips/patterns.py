@@ -132,7 +132,8 @@ class Pattern:
             return False
         # The numbers of this pattern are walked one by one: sets of them could be far more than numbers.
         todo = list(self._beside(self.first, b, b.start()))
-        seen = set(todo)
+        # What == runs may modify lists and dicts of its own, but no set.
+        seen = {pair: True for pair in todo}
         while todo:
             number, place = todo.pop()
             if place is None:
@@ -141,7 +142,7 @@ class Pattern:
                 return False
             for pair in self._beside(self.follow[number], b, place):
                 if pair not in seen:
-                    seen.add(pair)
+                    seen[pair] = True
                     todo.append(pair)
         return True
 

@@ -33,7 +33,7 @@ def plain_shift(book, rule):
     if rule.word == "swapped":
         # The first token comes to stand second, and the second one first.
         held = [(at, 1 - at) for at, token in enumerate(rule.tokens) if token in book.words]
-    spots = range(len(rule.removed))
+    spots = list(range(len(rule.removed)))
     return Shift(rule.removed, rule.inserted, spots, alike=rule.keeps_words(book), held=held)
 
 

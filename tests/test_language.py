@@ -15,6 +15,13 @@ BUILTINS = {
     "OverflowError", "RuntimeError", "NotImplementedError", "AttributeError", "StopIteration", "NotImplemented",
 }
 LIBRARY = {"heapq", "math", "itertools", "collections", "__future__"}
+LAZY = {"range", "zip", "enumerate", "reversed", "map", "items", "keys", "values"}
+TAKERS = {"list", "tuple", "dict", "sorted", "sum", "any", "all", "min", "max", "enumerate", "zip"}
+QUIET = {"__eq__", "__ne__", "__lt__", "__le__", "__gt__", "__ge__", "__len__", "__str__", "__repr__"}
+MODIFIERS = {
+    "append", "clear", "extend", "insert", "pop", "remove", "reverse", "setdefault", "update", "sort", "add", "discard",
+}
+HEAPS = {"heappush", "heappop", "heapify", "heapreplace", "heappushpop"}
 NODES_OUT = (ast.AsyncFunctionDef, ast.AsyncFor, ast.AsyncWith, ast.Await, ast.Div, ast.MatMult, ast.Import)
 
 
@@ -32,6 +39,70 @@ def bound_in(tree):
 
 def yields(node):
     return any(isinstance(part, (ast.Yield, ast.YieldFrom)) for part in ast.walk(node))
+
+
+def called_name(node):
+    """The name by which a call calls, or None."""
+    return getattr(node.func, "id", getattr(node.func, "attr", None)) if isinstance(node, ast.Call) else None
+
+
+def walked_at_once(tree):
+    """What a file iterates over on the spot: behind an in, or as the first argument of what takes it whole."""
+    found = [node.iter for node in ast.walk(tree) if isinstance(node, (ast.For, ast.comprehension))]
+    return found + [node.args[0] for node in ast.walk(tree) if called_name(node) in TAKERS and node.args]
+
+
+def kept_in(tree):
+    """The rows of a file in which a range, a zip, a view and the like is not iterated over on the spot.
+
+    The language lets a variable keep one under conditions; here nothing is kept, so that none can be missed.
+    """
+    at_once = walked_at_once(tree)
+    return [node.lineno for node in ast.walk(tree) if called_name(node) in LAZY and node not in at_once]
+
+
+def is_new(value):
+    """Whether a value is plainly a new list or dict."""
+    return isinstance(value, (ast.List, ast.Dict, ast.ListComp, ast.DictComp)) or called_name(value) in {"list", "dict"}
+
+
+def created_in(function):
+    """The variables of a function that are only ever assigned new lists and dicts."""
+    stored = [node.id for node in ast.walk(function) if isinstance(node, ast.Name) and isinstance(node.ctx, ast.Store)]
+    new = [node.targets[0].id for node in ast.walk(function)
+           if isinstance(node, ast.Assign) and isinstance(node.targets[0], ast.Name) and is_new(node.value)]
+    return {name for name in new if stored.count(name) == new.count(name)}
+
+
+def modified_in(function):
+    """What a function modifies: a node for each attribute, item, list or set, as far as the words show it."""
+    for node in ast.walk(function):
+        if isinstance(node, (ast.Subscript, ast.Attribute)) and not isinstance(node.ctx, ast.Load):
+            yield node.value if isinstance(node, ast.Subscript) else node
+        elif isinstance(node, ast.AugAssign):
+            yield node
+        elif isinstance(node, ast.Call) and isinstance(node.func, ast.Attribute) and node.func.attr in MODIFIERS:
+            yield node.func.value
+        elif called_name(node) in HEAPS:
+            yield node.args[0]
+
+
+def not_own_in(function):
+    """The rows in which a function modifies what is no list or dict that it created itself."""
+    created = created_in(function)
+    return [node.lineno for node in modified_in(function) if getattr(node, "id", None) not in created]
+
+
+def run_by(names, trees):
+    """The functions and methods of these names, and all that have a name that one of them calls."""
+    made = [node for tree in trees for node in ast.walk(tree) if isinstance(node, ast.FunctionDef)]
+    found, todo = [], [node for node in made if node.name in names]
+    while todo:
+        node = todo.pop()
+        found.append(node)
+        called = {called_name(part) for part in ast.walk(node)}
+        todo += [other for other in made if other.name in called and other not in found + todo]
+    return found
 
 
 class Files(unittest.TestCase):
@@ -99,6 +170,17 @@ class Words(unittest.TestCase):
                 if isinstance(node, ast.Constant) and isinstance(node.value, str):
                     self.assertNotIn(chr(37), node.value, path.name)
 
+    def test_what_is_iterated_over_is_not_kept(self):
+        for path in FILES:
+            self.assertEqual(kept_in(ast.parse(path.read_text())), [], path.name)
+
+    def test_what_is_kept_is_told(self):
+        for row in ("k = range(3)", "f(xs.items())", "k = a if b else zip(a, b)", "k = [reversed(a)]",
+                    "k.v = enumerate(a)", "f(range(3), k=1)", "f(map(str, a))"):
+            self.assertEqual(kept_in(ast.parse(row)), [1], row)
+        for row in ("k = list(range(3))", "k = [a for a in zip(b, c)]", "for a, b in k.items(): pass"):
+            self.assertEqual(kept_in(ast.parse(row)), [], row)
+
 
 class Methods(unittest.TestCase):
     """A name is a method, an attribute, a property or a generator in the whole package, not two of these."""
@@ -126,6 +208,24 @@ class Methods(unittest.TestCase):
         for node in self.classes:
             called = {part.name for part in node.body if isinstance(part, ast.FunctionDef)}
             self.assertLessEqual(len(called & self.generators), 1, node.name)
+
+
+class Comparisons(unittest.TestCase):
+    """Beside heaps, == and len, str and repr modify only lists and dicts of their own, also in what they call."""
+
+    def test_they_modify_nothing_else(self):
+        found = run_by(QUIET, [ast.parse(path.read_text()) for path in FILES])
+        self.assertLessEqual({"__eq__", "within", "moves", "numbers_in"}, {node.name for node in found})
+        for node in found:
+            self.assertEqual(not_own_in(node), [], node.name)
+
+    def test_what_is_modified_is_told(self):
+        for row in ("k = set(); k.add(1)", "k = {1}; k.discard(1)", "self.k = 1", "self.k[0] = 1", "k.pop()", "k += 1",
+                    "del k[0]", "k = []; k = a; k.append(1)", "heappush(k, 1)", "self.k.append(1)", "k, self.k = 1, 2"):
+            self.assertEqual(not_own_in(ast.parse(row)), [1], row)
+        for row in ("k = []; k.append(1)", "k = {}; k[0] = 1", "k = list(a); k.pop()", "k = a + 1",
+                    "k = []; heappop(k)", "k = {a: True for a in b}; k[0] = True"):
+            self.assertEqual(not_own_in(ast.parse(row)), [], row)
 
 
 if __name__ == "__main__":
